@@ -1,0 +1,1 @@
+"""Weirmark: streams that come late, answers taken back, and the least that must be kept."""
