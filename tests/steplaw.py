@@ -20,15 +20,21 @@ IDS = (-2, 0, 1, 5, (0, 1), ("a", 3), ("b", ("a", -1)), ((1, 2), 0))
 
 
 class Making:
-    """How a step is made, its sides, and the plain answer over the list of its sides' standings."""
+    """How a step is made, its sides, and the plain answer over the list of its sides' standings.
 
-    def __init__(self, make, plain, values, sides=1, longest=14, keys="ab"):
+    Where keep and out are given, they tell of these standings and the list of the marks what kept() and out_mark()
+    must be.
+    """
+
+    def __init__(self, make, plain, values, sides=1, longest=14, keys="ab", keep=None, out=None):
         self.make = make
         self.plain = plain
         self.values = values
         self.sides = sides
         self.longest = longest
         self.keys = keys
+        self.keep = keep
+        self.out = out
 
 
 class World:
@@ -91,6 +97,10 @@ class World:
         kept = self.step.kept()
         self.test.assertIs(type(kept), tuple)
         self.test.assertEqual(list(kept[:self.making.sides]), self.marks)
+        if self.making.keep is not None:
+            self.test.assertEqual(kept, self.making.keep(self.standings, self.marks))
+        if self.making.out is not None:
+            self.test.assertEqual(self.step.out_mark(), self.making.out(self.standings, self.marks))
         for entries in kept[self.making.sides:]:
             self.test.assertIs(type(entries), list)
             if entries and is_id(entries[0][0]):
@@ -133,6 +143,16 @@ def some_world(test, making, seed, deeds):
     for _ in range(deeds):
         do(world, some_deed(chance, world))
     return world
+
+
+def check_all(test, making, seeds):
+    """All that holds of every step."""
+    check_interface(test, making)
+    check_deeds(test, making, seeds=2 * seeds)
+    check_asking(test, making, seeds=seeds // 2)
+    check_equal_keeps(test, making, seeds=seeds)
+    check_same_in_the_end(test, making, seeds=seeds)
+    check_nothing_shared(test, making, seeds=seeds // 2)
 
 
 def check_interface(test, making):
@@ -378,6 +398,58 @@ def check_nothing_shared(test, making, seeds=30):
                 spoil(answer)
             later = step.kept()
             test.assertEqual(later, run_all(making, deeds[:place + 1]).kept())
+
+
+def some_steps(making, deeds, most):
+    """Steps that keep each something else, some of all that these deeds lead to in whatever order."""
+    chance = random.Random(most)
+    first = making.make()
+    steps = {repr(first.kept()): first}
+    ahead = [first]
+    while ahead and len(steps) < most:
+        step = ahead.pop(chance.randrange(len(ahead)))
+        for deed in deeds:
+            twin = step.twin()
+            run_on(twin, [deed])
+            if repr(twin.kept()) not in steps:
+                steps[repr(twin.kept())] = twin
+                ahead.append(twin)
+    return list(steps.values())
+
+
+def parts_of(making, step):
+    """The entries that a step keeps, each with the place of its list."""
+    return {
+        (place, repr(entry)) for place, entries in enumerate(step.kept()[making.sides:]) for entry in entries}
+
+
+def check_near_pairs(test, making, deeds, most=150, pairs=400):
+    """(b), (c) of some such steps, (d) of pairs of them with the same marks that differ by one entry alone."""
+    steps = some_steps(making, deeds, most)
+    chance = random.Random(most)
+    for step in chance.sample(steps, min(len(steps), 60)):
+        check_shaking(test, making, step)
+        check_touching(test, making, step)
+    held = [(step, step.kept()[:making.sides], parts_of(making, step)) for step in steps]
+    near = []
+    for place, (one, marks, parts) in enumerate(held):
+        near += [
+            (one, other) for other, other_marks, other_parts in held[:place]
+            if marks == other_marks and len(parts ^ other_parts) <= 2]
+    test.assertTrue(near)
+    for one, other in chance.sample(near, min(len(near), pairs)):
+        check_apart(test, making, one, other)
+        check_apart(test, making, other, one)
+
+
+def near_deeds(ids, times, keys, values, sides=1):
+    """Puts and marks of which few steps differ much."""
+    deeds = []
+    for side in range(sides):
+        rows = [None] + [(time, key, value) for time in times for key in keys for value in values]
+        deeds += [("put", tag, row, side) for tag in ids for row in rows]
+        deeds += [("mark", at, side) for at in times] + [("mark", max(times) + 1, side)]
+    return deeds
 
 
 def run_all(making, deeds):

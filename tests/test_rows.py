@@ -3,7 +3,7 @@
 import random
 import unittest
 
-from weirmark.rows import END, changed, in_order, is_row, laid_on
+from weirmark.rows import END, by_key, changed, in_order, is_row, laid_on
 
 IDS = (-3, 0, 1, 2, 11, (0, 1), ("a", -1), ("a", 5), ("b", (1, 2)), ((1, 1), 0))
 FIGURES = 10 ** 300 - 1
@@ -64,6 +64,18 @@ class OrderTest(unittest.TestCase):
         self.assertIs(type(told[0]), tuple)
         told.clear()
         self.assertEqual(in_order(standing), [(1, (5, "a", 1)), (0, (6, "a", 1))])
+
+
+class ByKeyTest(unittest.TestCase):
+    def test_each_keys_rows_in_true_order(self):
+        chance = random.Random(5)
+        for _ in range(40):
+            standing = some_standing(chance)
+            found = by_key(standing)
+            self.assertEqual(set(found), {row[1] for row in standing.values()})
+            for key, entries in found.items():
+                self.assertEqual(entries, [entry for entry in in_order(standing) if entry[1][1] == key])
+        self.assertEqual(by_key({}), {})
 
 
 class ChangesTest(unittest.TestCase):

@@ -1,4 +1,4 @@
-"""What the steps that pass rows on have in common."""
+"""What the steps that keep rows have in common."""
 
 from weirmark.errors import BackMark, Late, NotLoose
 from weirmark.ids import fresh_key, id_key, number_ahead
@@ -6,7 +6,7 @@ from weirmark.rows import END, changed, in_order, laid_on
 
 
 class Flow:
-    """A side's mark, and what is told of its rows that are not fixed.
+    """A side's mark, and what is told, or kept, of its rows that are not fixed.
 
     Nothing is kept of fixed rows, so an id that a fixed row had is as a new one, and no put is refused with Fixed.
     """
@@ -32,6 +32,10 @@ class Flow:
         self.reached = at
         return sure
 
+    def recast(self, rows):
+        """The rows are these, whatever was there."""
+        self.rows = dict(rows)
+
     def entries(self):
         """The rows as they are kept."""
         return [entry_of(tag, self.rows[tag]) for tag in sorted(self.rows, key=id_key)]
@@ -41,11 +45,11 @@ class Flow:
         self.reached = at
         self.rows = standing_of(entries)
 
-    def take_back(self, tag):
+    def take_back(self, tag, side):
         """The put that takes back the loose row under the id."""
         if tag not in self.rows:
             raise NotLoose()
-        return ("put", tag, None, 0)
+        return ("put", tag, None, side)
 
 
 def entry_of(tag, row):
@@ -58,16 +62,29 @@ def standing_of(entries):
     return dict([(tag, (time, key, value)) for tag, time, key, value in entries])
 
 
-def new_put(at, value, entries):
+def tags_of(entries):
+    """The ids of rows that were kept."""
+    return [entry[0] for entry in entries]
+
+
+def keys_of(entries):
+    """The keys of rows that were kept."""
+    return [entry[2] for entry in entries]
+
+
+def unlike_tag(ones, others):
+    """The first id under which two lists of kept rows, that are unlike, have not the same."""
+    return changed(standing_of(ones), standing_of(others))[0][0]
+
+
+def new_put(at, value, entries, side):
     """The put of a row at the time with an id and a key that none of the kept rows has."""
-    tag = number_ahead([entry[0] for entry in entries])
-    key = fresh_key([entry[2] for entry in entries])
-    return ("put", tag, (at, key, value), 0)
+    return ("put", number_ahead(tags_of(entries)), (at, fresh_key(keys_of(entries)), value), side)
 
 
 def touching_rows(kept, value):
     """Puts that change a row at the mark; the step tells of a row with the value."""
-    return None if kept[0] == END else [new_put(kept[0], value, kept[1])]
+    return None if kept[0] == END else [new_put(kept[0], value, kept[1], 0)]
 
 
 def apart_rows(one, other, value):
@@ -76,6 +93,5 @@ def apart_rows(one, other, value):
         return None
     if one[0] != other[0]:
         # One of the two refuses it as late.
-        return [new_put(min(one[0], other[0]), value, one[1] + other[1])]
-    unlike = changed(standing_of(one[1]), standing_of(other[1]))
-    return [("put", unlike[0][0], None, 0)]
+        return [new_put(min(one[0], other[0]), value, one[1] + other[1], 0)]
+    return [("put", unlike_tag(one[1], other[1]), None, 0)]

@@ -45,7 +45,7 @@ class Pick(Step):
         return twin
 
     def shaking(self, tag):
-        return [self.flow.take_back(tag)]
+        return [self.flow.take_back(tag, 0)]
 
     def touching(self):
         return touching_rows(self.kept(), self.low)
@@ -94,7 +94,7 @@ class Turn(Step):
         return twin
 
     def shaking(self, tag):
-        return [self.flow.take_back(tag)]
+        return [self.flow.take_back(tag, 0)]
 
     def touching(self):
         return touching_rows(self.kept(), 0)

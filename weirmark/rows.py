@@ -29,6 +29,14 @@ def in_order(standing):
     return sorted(standing.items(), key=true_place)
 
 
+def by_key(standing):
+    """The dict from each key of the standing to the list of (id, row) of its rows, in true order."""
+    found = {}
+    for entry in in_order(standing):
+        found.setdefault(entry[1][1], []).append(entry)
+    return found
+
+
 def changed(before, after):
     """The list of (id, old, new), rising ids, of the ids under which two standings have not the same."""
     tags = sorted(list(before) + [tag for tag in after if tag not in before], key=id_key)
