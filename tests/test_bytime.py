@@ -70,12 +70,12 @@ class LawTest(unittest.TestCase):
 
     def test_pairs_that_differ_by_little(self):
         deeds = steplaw.near_deeds((1, ("a", 0)), (0, 1, 3), "ab", (0, 1, -1))
-        one_key = steplaw.near_deeds((1, ("a", 0)), (0, 1, 2, 3), "a", (0, 1, 2))
+        one_key = steplaw.near_deeds((-1, ("a", 0)), (0, 1, 2, 3), "a", (0, 1, 2))
         for word in plainsums.WORDS:
             for size, hop in ((3, 3), (4, 2), (2, 3)):
                 with self.subTest(word=word, size=size, hop=hop):
-                    steplaw.check_near_pairs(self, making(size, hop, word), deeds, pairs=250)
-                    steplaw.check_near_pairs(self, making(size, hop, word), one_key, pairs=250)
+                    steplaw.check_near_pairs(self, making(size, hop, word), deeds, pairs=120)
+                    steplaw.check_near_pairs(self, making(size, hop, word), one_key, pairs=120)
 
 
 class ByTimeTest(unittest.TestCase):
@@ -281,6 +281,54 @@ class ByTimeTest(unittest.TestCase):
                 steps.append(step)
             for one, other in (steps, steps[::-1]):
                 steplaw.check_apart(self, making(10, 10, word), one, other)
+
+    def test_apart_where_the_times_alone_are_unlike_behind_a_part(self):
+        for word in plainsums.WORDS:
+            for tag in (1, ("a", 1)):
+                steps = []
+                for time in (3, 7):
+                    step = ByTime(10, 10, sum_of(word))
+                    step.put(0, (2, "a", 5))
+                    step.mark(3)
+                    step.put(tag, (time, "a", {"least": 4, "greatest": 6, "unlike": 6}.get(word, 5)))
+                    steps.append(step)
+                for one, other in (steps, steps[::-1]):
+                    steplaw.check_apart(self, making(10, 10, word), one, other)
+
+    def test_apart_where_values_count_alike(self):
+        for fixed in ([], [("a", 0, (1, 2))], [("a", 0, (5, 6))]):
+            steps = []
+            for value in (7, 9, 12):
+                step = ByTime(10, 10, Unlike())
+                step.lay((3, fixed, [(-1, 4, "a", value)]))
+                steps.append(step)
+            for one in steps:
+                for other in steps:
+                    steplaw.check_apart(self, making(10, 10, "unlike"), one, other)
+
+    def test_apart_by_an_id_that_neither_keeps(self):
+        step = ByTime(10, 10, Last())
+        step.lay((3, [("a", 0, 5)], [(-1, 4, "a", 5)]))
+        other = ByTime(10, 10, Last())
+        other.lay((3, [("a", 0, 5)], []))
+        for one, two in ((step, other), (other, step)):
+            steplaw.check_apart(self, making(10, 10, "last"), one, two)
+
+    def test_shaking_finds_a_value_that_is_new_to_the_part(self):
+        for values in ((1, 3), (0, 1, 3, 5), (-1, 1), (0, 1, 2), (1, 2, 3), (0, 2), (7,), (0, 1, 2, 4, 6)):
+            step = ByTime(10, 10, Unlike())
+            for tag, value in enumerate(values):
+                step.put(tag, (2, "a", value))
+            step.mark(3)
+            steplaw.check_shaking(self, making(10, 10, "unlike"), step)
+
+    def test_shaking_of_fixed_rows_alone_with_each_sum(self):
+        for word in plainsums.WORDS:
+            for value in (-2, -1, 0, 1, 2, 10 ** 60 - 1, 1 - 10 ** 60):
+                step = ByTime(10, 5, sum_of(word))
+                step.put(1, (2, "a", value))
+                step.mark(3)
+                steplaw.check_shaking(self, making(10, 5, word), step)
 
     def test_the_bounds_of_point_5(self):
         for word in plainsums.WORDS:

@@ -13,6 +13,11 @@ def take_backs(tags):
     return [("put", tag, None, 0) for tag in tags]
 
 
+def keys_in(rows):
+    """The keys of a list of rows, each once; None among them is no row."""
+    return sorted(set([row[1] for row in rows if row is not None]))
+
+
 def tag_ahead(one, other):
     """A whole number ahead of all ids of the rows that either of two steps keeps."""
     return number_ahead(tags_of(one[2] + other[2]))
