@@ -130,16 +130,13 @@ class ByCount(Step):
         tag = tag_ahead(one, other)
         parts = [self.total.behind(None, row[2]) for row in found[1]]
         value = self.total.probe(parts[0], parts[-1])
-        later = max([row[0] for row in found[1]]) + 1
         trials = []
         for row in found[1]:
-            key = row[1]
-            number = self.heads.get(key, (0, None))[0]
-            to_last = puts(tag, (-1 - number) % self.many, (one[0], key, 0))
-            to_first = puts(tag, -number % self.many, (one[0], key, 0))
-            trials.append(puts(tag, self.many, (later, key, 0)))
-            trials.append(to_last + take_backs([found[0]]))
-            trials.append(to_first + puts(tag - self.many, self.many - 1, (later, key, value or 0)))
+            # Ever more rows ahead of it make the row the last of its lot, which tells its time, and then the first
+            # of the next one, where no fixed rows can hide its value.
+            number = self.heads.get(row[1], (0, None))[0]
+            ahead = puts(tag, self.many - number % self.many, (one[0], row[1], 0))
+            trials.append(ahead + puts(tag - self.many, self.many - 1, (row[0] + 1, row[1], value or 0)))
         return trials
 
 

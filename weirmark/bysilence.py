@@ -7,7 +7,6 @@ from weirmark.more4 import (
     until_changed,
 )
 from weirmark.rows import END, by_key, changed, in_order
-from weirmark.runs import answer
 from weirmark.steps import Step
 from weirmark.stills import stretches
 
@@ -76,7 +75,7 @@ class BySilence(Step):
             return None
         for key, block in self.blocks.items():
             if block[1] == out:
-                return until_touched(self, self.lonely_put(key), out)
+                return self.lonely_put(key)
         kept = self.kept()
         return [put_ahead(kept, (out, new_key(kept), 0))]
 
@@ -126,7 +125,7 @@ class BySilence(Step):
         return ((key, first), (stretch[-1][1][0], key, self.total.shown(part, values)))
 
     def lonely_put(self, key):
-        """Puts that take back all rows of the key, then put one at the mark, where it goes on with a block."""
+        """Puts that take back all rows of the key, then put one at the mark, where it goes on with the block alone."""
         kept = self.kept()
         tags = [tag for tag, row in self.flow.rows.items() if row[1] == key]
         return take_backs(tags) + [put_ahead(kept, (kept[0], key, 0))]
@@ -142,13 +141,3 @@ class BySilence(Step):
         if value is not None:
             trials.append([("put", tag_ahead(one, other), (one[0], key, value), 0)])
         return trials
-
-
-def until_touched(step, deeds, at):
-    """The puts up to the first that tells a change whose old or new row has the time."""
-    twin = step.twin()
-    for place, deed in enumerate(deeds):
-        for tag, old, new in answer(twin, deed)[1]:
-            if at in [row[0] for row in (old, new) if row is not None]:
-                return deeds[:place + 1]
-    return deeds

@@ -146,15 +146,10 @@ def stirring(total, part):
 def trials_of_times(one, other):
     """Lists of deeds, one of which tells two steps apart that keep the same but for a row under one id."""
     found = unlike_rows(one, other)
-    tag = tag_ahead(one, other)
     trials = trials_of_rows(one, other)
     for row in found[1]:
-        trials.append([("put", tag, with_value(row, 1), 0)])
-    times = sorted([row[0] for row in found[1]])
-    if times[0] != times[-1]:
-        # Then one of the two rows is fixed, and the other one is not.
-        rise = ("mark", times[0] + 1, 0)
-        later = [row for row in found[1] if row[0] == times[-1]][0]
-        trials.append([rise] + take_backs([found[0]]))
-        trials.append([rise, ("put", tag, with_value(later, 1), 0)])
+        trials.append([("put", tag_ahead(one, other), with_value(row, 1), 0)])
+    # Where their times are unlike, one of the two rows is fixed by it, and the other one is not.
+    rise = ("mark", min([row[0] for row in found[1]]) + 1, 0)
+    trials.append([rise] + take_backs([found[0]]))
     return trials
