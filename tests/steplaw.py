@@ -16,7 +16,7 @@ from weirmark.steps import Step
 METHODS = (
     "put", "mark", "sides", "out_mark", "loose", "kept", "lay", "anew", "twin", "shaking", "touching", "apart",
 )
-IDS = (-2, 0, 1, 5, (0, 1), ("a", 3), ("b", ("a", -1)), ((1, 2), 0))
+IDS = (-1, 0, 1, 5, (0, 1), ("a", 3), ("b", ("a", -1)), ((1, 2), 0))
 
 
 class Making:
@@ -400,6 +400,31 @@ def check_nothing_shared(test, making, seeds=30):
             test.assertEqual(later, run_all(making, deeds[:place + 1]).kept())
 
 
+def check_fixed(test, making, seeds, places):
+    """Point 15: the rows that a step keeps fixed can not be put anew; places say where each side's rows are kept."""
+    refused = 0
+    for seed in range(seeds):
+        step = some_world(test, making, seed, 25).step
+        kept = step.kept()
+        for side in range(making.sides):
+            entries = kept[places[side]]
+            fixed = [entry[0] for entry in entries if entry[1] < kept[side]]
+            refused += len(fixed)
+            for tag in IDS + (99,):
+                rows = [None] + ([] if kept[side] == END else [(kept[side], "a", 0), (kept[side] + 9, "b", 1)])
+                for row in rows:
+                    told = run(step, [("put", tag, row, side)])[0]
+                    test.assertEqual(told[0], "fixed" if tag in fixed else "told")
+                if kept[side] > 0:
+                    late = ("put", tag, (min(kept[side], 10 ** 11) - 1, "a", 0), side)
+                    test.assertEqual(run(step, [late]), [("late",)], "15: Late is told first")
+            for tag in fixed:
+                with test.assertRaises(Fixed):
+                    step.put(tag, None, side)
+        test.assertEqual(step.kept(), kept)
+    test.assertTrue(refused)
+
+
 def some_steps(making, deeds, most):
     """Steps that keep each something else, some of all that these deeds lead to in whatever order."""
     chance = random.Random(most)
@@ -423,8 +448,8 @@ def parts_of(making, step):
         (place, repr(entry)) for place, entries in enumerate(step.kept()[making.sides:]) for entry in entries}
 
 
-def check_near_pairs(test, making, deeds, most=150, pairs=400):
-    """(b), (c) of some such steps, (d) of pairs of them with the same marks that differ by one entry alone."""
+def check_near_pairs(test, making, deeds, most=150, pairs=400, unlike=2):
+    """(b), (c) of some such steps, (d) of pairs of them with the same marks that differ by few entries."""
     steps = some_steps(making, deeds, most)
     chance = random.Random(most)
     for step in chance.sample(steps, min(len(steps), 60)):
@@ -435,7 +460,7 @@ def check_near_pairs(test, making, deeds, most=150, pairs=400):
     for place, (one, marks, parts) in enumerate(held):
         near += [
             (one, other) for other, other_marks, other_parts in held[:place]
-            if marks == other_marks and len(parts ^ other_parts) <= 2]
+            if marks == other_marks and len(parts ^ other_parts) <= unlike]
     test.assertTrue(near)
     for one, other in chance.sample(near, min(len(near), pairs)):
         check_apart(test, making, one, other)

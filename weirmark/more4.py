@@ -78,9 +78,13 @@ def with_value(row, more):
 
 def apart_alone(one, other, trials):
     """Deeds that tell two steps apart: all rows of both but the one looked at taken back, then one of the trials."""
+    return apart_behind(one, other, take_backs(other_tags(one.kept(), other.kept())), trials)
+
+
+def apart_behind(one, other, ahead, trials):
+    """Deeds that tell two steps apart: those ahead, up to the first that does it, then one of the trials."""
     ones = one.twin()
     others = other.twin()
-    ahead = take_backs(other_tags(one.kept(), other.kept()))
     for place, deed in enumerate(ahead):
         if answer(ones, deed) != answer(others, deed):
             return ahead[:place + 1]
