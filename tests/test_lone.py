@@ -312,12 +312,17 @@ class LoneTest(unittest.TestCase):
         # Here the row that is hidden is not the only one at out_mark().
         two = [(1, 4, "b", 1), (2, 4, "a", 1)]
         keeps = [(END, 2, two, [], [(1, 5, "a")]), (END, 2, two, [], [(1, 6, "a")]), (END, 2, two, [], [])] + keeps
+        # Here new ids must not be those of fixed rows.
+        for others in ([], [(1, 6, "a")], [(1, 7, "a")], [(-1, 6, "a")]):
+            keeps.append((5, 6, [(-1, 4, "b", 0)], [], others))
+        keeps += [(5, 6, [(-1, 4, "b", 0)], [("a", 5, 7)], []), (7, 6, [(-1, 4, "b", 0)], [], []), (7, 6, [], [], [])]
         steps = [laid(2, kept) for kept in keeps]
         for one in steps:
             for other in steps:
                 steplaw.check_apart(self, making(2), one, other)
-        self.assertEqual(unlike_at(steps[-1], steps[-2], [("mark", 2, 1), ("put", 1, None, 1)]), 1)
-        self.assertIsNone(first_apart(steps[-3], steps[-2], [[("put", 1, None, 1)], [("mark", 3, 1)]]))
+        one, two, none = [laid(2, (END, 2, [(1, 4, "a", 1)], [], others)) for others in ([(1, 3, "a")], [(1, 4, "a")], [])]
+        self.assertEqual(unlike_at(none, two, [("mark", 2, 1), ("put", 1, None, 1)]), 1)
+        self.assertIsNone(first_apart(one, two, [[("put", 1, None, 1)], [("mark", 3, 1)]]))
 
     def test_the_bounds_of_point_5_and_ids_as_deep_as_can_be(self):
         deep = 0

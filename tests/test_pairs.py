@@ -270,6 +270,23 @@ class PairsTest(unittest.TestCase):
             for one, two in (steps, steps[::-1]):
                 steplaw.check_apart(self, making(2, "sum"), one, two)
 
+    def test_apart_puts_nothing_under_the_ids_of_fixed_rows(self):
+        for side in (0, 1):
+            one = Pairs(2, "sum")
+            one.put(-1, (4, "a", 1), side)
+            one.mark(5, side)
+            other = Pairs(2, "sum")
+            other.mark(7, side)
+            third = Pairs(2, "sum")
+            third.mark(5, side)
+            third.put(-1, (6, "a", 1), 1 - side)
+            fourth = third.twin()
+            fourth.mark(7, 1 - side)
+            steps = (one, other, third, fourth)
+            for first in steps:
+                for second in steps:
+                    steplaw.check_apart(self, making(2, "sum"), first, second)
+
     def test_apart_where_the_values_of_pairs_are_alike(self):
         for side in (0, 1):
             for how, values in (("sum", (1, 4, 2, 3)), ("less", (1, 4, 2, 5))):

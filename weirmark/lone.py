@@ -170,7 +170,7 @@ class Lone(Step):
         return fresh_key([row[1] for row in self.banks[1].rows.values()] + list(self.covered))
 
     def trials(self, one, other):
-        """Lists of deeds, one of which tells two steps apart that have the same marks; less is left of side 1."""
+        """Lists of deeds, one of which tells two steps with the same marks apart behind those that take rows back."""
         if one[3] != other[3]:
             spot = spot_apart(one[3], other[3])
             return [[("put", number_ahead(tags_of(one[2] + other[2])), (spot[0], spot[1], 0), 0)]]
